@@ -1,0 +1,63 @@
+"""The interface: every name in its file, with its arguments by their names, defined there and nowhere else."""
+
+from importlib import import_module
+from inspect import isclass, isfunction, signature
+from unittest import TestCase
+
+CLASSES = {"errors": "NoPlace(place), NothingDone(), BadLine(line), CanNot(), TooMuch(), Unfit()"}
+
+FUNCTIONS = {
+    "heaps": """is_lot(thing, m), is_heap(thing), come_to(heap, starts), live(heap), dead(heap), ahead_of(heap, one),
+        holders(heap, one), sight(heap, one), areas_of(heap, some), way(heap, starts, one),
+        is_way(heap, starts, one, thing), cut_to(heap, some), dead_heap(heap), relaid(heap, areas)""",
+    "programs": """is_deed(thing, m), can_do(heap, deed), done(heap, deed), run(heap, deeds), deaths(heap, deeds),
+        script_of(heap)""",
+    "parts": """part_of(heap, place), parts(heap), dead_parts(heap), is_part(heap, thing), is_ahead(heap, near, far),
+        foremost(heap), part_row(heap), part_ties(heap), part_depth(heap, place), lots_ahead(heap, place),
+        parts_without(heap, near, far), joints(heap), dies_without(heap, near, far), grips(heap, place)""",
+    "books": """book(heap, area), books(heap), entries(heap, lot), look(heap, lot), same_look(heap, other, lot),
+        is_blocks(heap, thing), block_entries(heap, lot, blocks), needless(heap, lot, blocks),
+        harmful_lot(heap, blocks), stuck_by_blocks(heap, blocks), book_moves(heap, areas)""",
+    "sweeps": """kept(heap, lot), freed(heap, lot), kept_dead(heap, lot), hold_of(heap, lot, one),
+        is_hold(heap, lot, one, thing), shut_of(heap, lot, one), is_shut(heap, lot, one, thing),
+        keepers(heap, lot, one), swept(heap, lot), numbers_behind(heap, lot)""",
+    "leastlots": """need_of(heap, one), needs(heap), lot_for(heap, some), freed_too(heap, one), tight_lots(heap),
+        tight_within(heap, lot), narrowest(heap), beyond(heap, many), most_freed(heap, many)""",
+    "rows": """is_row(thing, m), freed_by_row(heap, row), row_frees(heap, row, goal),
+        is_freeing(heap, goal, many, thing), many_needed(heap, goal), barring_part(heap, goal, many),
+        is_barring_part(heap, goal, many, thing), least_row(heap, goal, many)""",
+    "rules": """is_rule(thing, m), is_plain(rule), picks_of(rule, lot), rule_by(word, m), rule_in(order),
+        renamed(rule, names), renamings(rule, other), narrowed(rule, lot), unlike_at(rule, other), plain_many(rule),
+        plain_at(rule, number), number_of(rule, other)""",
+}
+
+
+def told_calls(text):
+    """The pairs (name, arguments) of a row of calls."""
+    calls = [own.strip().strip(",").strip() for own in text.replace("\n", " ").split(")") if own.strip()]
+    return [(own.split("(")[0], [arg.strip() for arg in own.split("(")[1].split(",") if arg.strip()]) for own in calls]
+
+
+class InterfaceTest(TestCase):
+
+    def test_functions(self):
+        for file, text in FUNCTIONS.items():
+            module = import_module(f"gatheryard.{file}")
+            for name, arguments in told_calls(text):
+                with self.subTest(f"{file}.{name}"):
+                    own = getattr(module, name)
+                    self.assertTrue(isfunction(own))
+                    self.assertEqual(own.__module__, module.__name__)
+                    self.assertEqual(list(signature(own).parameters), arguments)
+        self.assertEqual(sum(len(told_calls(text)) for text in FUNCTIONS.values()), 84)
+
+    def test_classes(self):
+        for file, text in CLASSES.items():
+            module = import_module(f"gatheryard.{file}")
+            for name, arguments in told_calls(text):
+                with self.subTest(f"{file}.{name}"):
+                    own = getattr(module, name)
+                    self.assertTrue(isclass(own))
+                    self.assertEqual(own.__module__, module.__name__)
+                    given = {argument: place for place, argument in enumerate(arguments)}
+                    self.assertEqual(vars(own(**given)), given)
