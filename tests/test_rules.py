@@ -9,8 +9,8 @@ from gatheryard.errors import NoPlace, Unfit
 from gatheryard.rules import (is_plain, is_rule, narrowed, number_of, picks_of, plain_at, plain_many, renamed,
                               renamings, rule_by, rule_in, unlike_at)
 from tests.checks import NOTHINGS, check_call, check_examples, spoilt
-from tests.makers import lots, random_rule, some_rules
-from tests.plain import all_names, plain_rules_within, rule_renamed
+from tests.makers import lots, random_rule, some_heaps, some_rules
+from tests.plain import all_names, areas, freed_in, inside, members, plain_rules_within, rule_renamed, tied
 
 EXAMPLES = """
 >>> great, turn = rule_by("greatest", 3), rule_by("turn", 3)
@@ -51,6 +51,18 @@ def picked(word, lot):
 def rules_for_tests():
     words = [(m, rule_by(word, m)) for m in range(1, 7) for word in WORDS]
     return words + some_rules(60, 4, 11) + some_rules(12, 6, 12)
+
+
+def may_lie(heap, rule, lot):
+    """Where each object may lie behind a sweep of lot by rule, object by object; () for what it frees."""
+    found = []
+    for one in members(heap):
+        sight = areas(heap, [one] + [near for near in members(heap) if tied(heap, near, one)])
+        if one in freed_in(heap, lot):
+            found.append(())
+        else:
+            found.append(picks_of(rule, sight) if one in inside(heap, lot) else (heap[1][one][0],))
+    return found
 
 
 def is_rule_plainly(thing, m):
@@ -96,6 +108,17 @@ class RulesTest(TestCase):
             self.assertIs(is_rule(renamed(rule, names), m), True)
             for wrong in (names + (m,), names[1:], (0,) * (m + 1), (m,) + names[1:], (-1,) + names[1:], ()):
                 self.assertRaises(Unfit, renamed, rule, wrong)
+
+    def test_what_a_rule_does_is_done_renamed(self):
+        random = Random(115)
+        for heap in some_heaps(60, 4, 7, 116):
+            m = heap[0]
+            rule, names = random_rule(random, m, False), random.sample(range(m), m)
+            other = (m, tuple([(names[area], ties) for area, ties in heap[1]]), heap[2])
+            for lot in lots(m):
+                wanted = [tuple(sorted(names[area] for area in own)) for own in may_lie(heap, rule, lot)]
+                called = tuple(sorted(names[area] for area in lot))
+                self.assertEqual(may_lie(other, renamed(rule, names), called), wanted)
 
     def test_renamings_by_all_names(self):
         random = Random(114)
