@@ -34,6 +34,13 @@ def check_places(places, limit):
             raise NoPlace(place)
 
 
+def check_members(places, lot):
+    """Raises NoPlace of the first of places that is no area of lot."""
+    for place in places:
+        if place not in lot:
+            raise NoPlace(place)
+
+
 def mark(some):
     """The dict in which each of some is a key, to look them up in."""
     return {one: True for one in some}
@@ -104,6 +111,11 @@ def places_in(mask):
     return tuple([place for place in range(mask.bit_length()) if (mask >> place) & 1])
 
 
+def masks_within(mask):
+    """The list, ascending, of the masks, not 0, of some of the places of mask."""
+    return [own for own in range(1, mask + 1) if own & mask == own]
+
+
 def reach_masks(table):
     """For each place the mask of what is come to from it by table."""
     masks = [mask_of(steps) | (1 << place) for place, steps in enumerate(table)]
@@ -127,3 +139,11 @@ def lots_within(areas):
 def lots_by_size(areas):
     """All LOTS of the told areas, those of fewest areas first, of as many the least first."""
     return sorted(lots_within(areas), key=lambda lot: (len(lot), lot))
+
+
+def orders_of(m):
+    """The list, ascending, of the tuples of all m areas, each once."""
+    orders = [()]
+    for _ in range(m):
+        orders = [order + (area,) for order in orders for area in range(m) if area not in order]
+    return orders

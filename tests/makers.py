@@ -133,3 +133,44 @@ def some_rules(count, most_areas, seed):
         m = random.randint(1, most_areas)
         found.append((m, random_rule(random, m, turn % 2 == 0)))
     return found
+
+
+def all_rules(m):
+    """The list of all RULES for m areas, plain or not."""
+    sights = sorted(lot for lot in lots(m) if len(lot) > 1)
+    picks = [[own for own in subsets(lot) if own] for lot in sights]
+    return [tuple(zip(sights, picked)) for picked in product(*picks)]
+
+
+def all_plain_rules(m):
+    """The list of all plain RULES for m areas."""
+    sights = sorted(lot for lot in lots(m) if len(lot) > 1)
+    return [tuple([(lot, (area,)) for lot, area in zip(sights, picked)]) for picked in product(*sights)]
+
+
+def small_and_great_rules(seed):
+    """Pairs (m, RULE): all RULES for two areas, all plain ones for three, some others, up to 6 areas."""
+    found = [(1, ())] + [(2, rule) for rule in all_rules(2)] + [(3, rule) for rule in all_plain_rules(3)]
+    found += [(3, rule) for rule in all_rules(3)[::5]] + some_rules(30, 4, seed) + some_rules(16, 6, seed + 1)
+    random = Random(seed + 2)
+    found += [(m, sparse_rule(random, m)) for m in (4, 4, 5, 5, 6, 6) for _ in range(3)]
+    return found + [(6, tuple([(lot, lot) for lot in sorted(lots(6)) if len(lot) > 1]))]
+
+
+def sparse_rule(random, m):
+    """A RULE for m areas that picks mostly in one order, so that few areas lead to one another."""
+    order = random.sample(range(m), m)
+    pairs = []
+    for lot in sorted(lots(m)):
+        if len(lot) > 1:
+            row = [area for area in order if area in lot]
+            picks = {random.choice(row[1:])}
+            if random.randrange(8) == 0:
+                picks = {random.choice(row), random.choice(row)}
+            pairs.append((lot, tuple(sorted(picks))))
+    return tuple(pairs)
+
+
+def some_course(random, m, many):
+    """A COURSE for m areas of at most so many LOTS."""
+    return tuple([random.choice(lots(m)) for _ in range(random.randint(1, many))])

@@ -132,3 +132,104 @@ def plain_rules_within(rule):
     """All plain RULES within rule, ascending."""
     return sorted(tuple((lot, (area,)) for (lot, _), area in zip(rule, areas_picked))
                   for areas_picked in product(*[picks for _, picks in rule]))
+
+
+def within_lot(lot):
+    """All LOTS of areas of lot, fewest areas first, then ascending."""
+    return [own for own in subsets(lot) if own]
+
+
+def picks_at(rule, lot):
+    return lot if len(lot) == 1 else dict(rule)[lot]
+
+
+def leads_within(rule, lot):
+    """The Python set of the pairs (one, other) such that one leads to other, by all LOTS."""
+    return {(one, other) for own in within_lot(lot) for one in own for other in picks_at(rule, own) if one != other}
+
+
+def reached_by(pairs, area):
+    """The Python set of the areas that are reached from area by these pairs."""
+    found = {area}
+    while True:
+        more = found | {other for one, other in pairs if one in found}
+        if more == found:
+            return found
+        found = more
+
+
+def each_from_each(pairs, lot):
+    return all(reached_by(pairs, area) >= set(lot) for area in lot)
+
+
+def is_woven_plainly(rule, lot):
+    return len(lot) > 1 and each_from_each(leads_within(rule, lot), lot)
+
+
+def all_closed_in(rule, lot):
+    """All LOTS that are closed in within lot, by trying all."""
+    pairs = leads_within(rule, lot)
+    return [inner for inner in within_lot(lot)
+            if not any(one not in inner and other in inner for one, other in pairs)]
+
+
+def chain_within(rule, lot):
+    """The CHAIN, by taking away the first LOT again and again."""
+    if lot == ():
+        return ()
+    first = all_closed_in(rule, lot)[0]
+    return (first,) + chain_within(rule, tuple([area for area in lot if area not in first]))
+
+
+def chain_plainly(rule, m):
+    return chain_within(rule, tuple(range(m)))
+
+
+def offends(row, lot, picks):
+    """Whether lot lies in none of row and has one of its picks in the first of them in which it has an area."""
+    if any(set(lot) <= set(own) for own in row):
+        return False
+    first = [own for own in row if set(own) & set(lot)][0]
+    return bool(set(first) & set(picks))
+
+
+def partings(lot):
+    """All rows of LOTS such that each area of lot lies in just one of them."""
+    if lot == ():
+        return [()]
+    return [(first,) + row for first in within_lot(lot)
+            for row in partings(tuple([area for area in lot if area not in first]))]
+
+
+def weaves(rule, lot):
+    """All WEAVES of lot, by trying all."""
+    choices = [[own for own in within_lot(lot) if len(own) > 1 and area in picks_at(rule, own)] for area in lot]
+    return [weave for weave in product(*choices) if is_weave_plainly(lot, weave)]
+
+
+def is_weave_plainly(lot, weave):
+    """Whether these LOTS, each of which may pick its area, make each area reached from each."""
+    pairs = {(one, area) for area, own in zip(lot, weave) for one in own if one != area}
+    return each_from_each(pairs, lot)
+
+
+def missed_by(rule, m, course):
+    """All LOTS that are missed, fewest areas first, then ascending."""
+    return [lot for lot in lots(m) if (len(lot) == 1 or is_woven_plainly(rule, lot))
+            and not any(set(lot) <= set(own) for own in course)]
+
+
+def sight_of(heap, one):
+    return areas(heap, [one] + [near for near in members(heap) if tied(heap, near, one)])
+
+
+def stays(rule, heap, one):
+    """Whether one may stay."""
+    return heap[1][one][0] in picks_at(rule, sight_of(heap, one))
+
+
+def foremost_parts(heap):
+    """All dead parts ahead of which no dead object outside of them is."""
+    gone = lifeless(heap)
+    return [part for part in all_dead_parts(heap)
+            if not any(near in gone and near not in part for near in all_ahead(heap, part[0]))]

@@ -29,6 +29,19 @@ FUNCTIONS = {
     "rules": """is_rule(thing, m), is_plain(rule), picks_of(rule, lot), rule_by(word, m), rule_in(order),
         renamed(rule, names), renamings(rule, other), narrowed(rule, lot), unlike_at(rule, other), plain_many(rule),
         plain_at(rule, number), number_of(rule, other)""",
+    "leads": """leads_in(rule, lot), lead_shown(rule, lot, one, other), is_lead_shown(rule, lot, one, other, thing),
+        reached(rule, lot, area), is_woven(rule, lot), woven_lots(rule), closed_in(rule, lot),
+        is_closed_in(rule, lot, thing), first_lot(rule, lot), way_into(rule, lot, inner), weave_of(rule, lot),
+        is_weave(rule, lot, thing)""",
+    "chains": """chain_of(rule), chain_in(rule, lot), is_chain(rule, thing), width(rule), is_linking(rule, thing),
+        linkings_to(rule, most), order_of(rule), is_order(rule, thing), bar_to(rule, most),
+        is_bar_to(rule, most, thing)""",
+    "stuck": """may_stay(rule, heap), must_stay(rule, heap), is_stuck(rule, heap), heap_of(rule, lot, weave),
+        stuck_heap(rule, lot), is_stuck_heap(rule, lot, thing), stuck_many(rule, lot), least_missed(rule, course),
+        stuck_against(rule, course), is_against(rule, course, thing), fewest_changed(rule, heap)""",
+    "counts": """rules_many(m), all_one_many(m), ordered_many(m), widths_many(m), sizes_many(m, sizes), chains_many(m),
+        chain_many(m, chain), order_number(rule), order_rule(m, number), ordered_with(m, told),
+        orders_with(m, told)""",
 }
 
 
@@ -49,7 +62,7 @@ class InterfaceTest(TestCase):
                     self.assertTrue(isfunction(own))
                     self.assertEqual(own.__module__, module.__name__)
                     self.assertEqual(list(signature(own).parameters), arguments)
-        self.assertEqual(sum(len(told_calls(text)) for text in FUNCTIONS.values()), 84)
+        self.assertEqual(sum(len(told_calls(text)) for text in FUNCTIONS.values()), 128)
 
     def test_classes(self):
         for file, text in CLASSES.items():
