@@ -35,7 +35,7 @@ def is_linking(rule, thing):
         return False
     if sorted([area for lot in thing for area in lot]) != list(range(areas_many(rule))):
         return False
-    return offending(pick_masks(rule), [mask_of(lot) for lot in thing]) == []
+    return offending(pick_masks(rule), [mask_of(lot) for lot in thing]) == {}
 
 
 def linkings_to(rule, most):
@@ -92,12 +92,12 @@ def widest(row):
 
 
 def offending(masks, row):
-    """The list of the masks of the LOTS that lie in none of row and pick from the first of row that they meet."""
-    found, left = [], sum(row)
+    """The dict, for the masks of the LOTS that lie in none of row and pick from the first that they meet, of that."""
+    found, left = {}, sum(row)
     for first in row:
         # What lies in the areas that are left meets none of row ahead of first.
         for own in masks_within(left):
             if own & first not in (0, own) and masks[own] & first:
-                found.append(own)
+                found[own] = first
         left = left - first
     return found

@@ -91,6 +91,11 @@ def lies_in(lot, other):
     return all([area in other for area in lot])
 
 
+def lies_in_some(lot, row):
+    """Whether some LOT of row has all areas of lot."""
+    return any([lies_in(lot, own) for own in row])
+
+
 def freed_by(all_needs, lot):
     """The set of the objects whose need lies within lot."""
     return tuple([one for one, need in enumerate(all_needs) if need is not None and lies_in(need, lot)])

@@ -1,6 +1,6 @@
 """RULES: to which area a sweep moves what it keeps, by its sight."""
 
-from gatheryard.basics import frozen, is_number, lots_within, mask_of
+from gatheryard.basics import frozen, is_number, lots_within, mask_of, places_in
 from gatheryard.errors import NoPlace, Unfit
 from gatheryard.heaps import is_lot
 
@@ -190,6 +190,12 @@ def pick_masks(rule):
     for lot, picks in rule:
         masks[mask_of(lot)] = mask_of(picks)
     return masks
+
+
+def rule_of(masks):
+    """The RULE of the masks that pick_masks tells."""
+    m = len(masks).bit_length() - 1
+    return tuple([(lot, places_in(masks[mask_of(lot)])) for lot in sight_lots(m)])
 
 
 def picks_agree(here, there, masks, area):

@@ -4,7 +4,7 @@ from gatheryard.basics import frozen, lots_by_size, mask_of, masks_within, place
 from gatheryard.errors import CanNot
 from gatheryard.heaps import areas_of, holder_table, is_heap, live
 from gatheryard.leads import weave_of, woven
-from gatheryard.leastlots import lies_in
+from gatheryard.leastlots import lies_in_some
 from gatheryard.parts import foremost, parts
 from gatheryard.rules import areas_many, pick_masks
 
@@ -103,11 +103,6 @@ def areas_and_picks(rule, heap):
         seen = mask_of([heap[1][near][0] for near in tied_from[one]]) | (1 << pair[0])
         found.append((pair[0], masks[seen]))
     return found
-
-
-def lies_in_some(lot, row):
-    """Whether some LOT of row has all areas of lot."""
-    return any([lies_in(lot, own) for own in row])
 
 
 def changes_for(seen, area, held):

@@ -117,6 +117,8 @@ def spoilt(value):
         for at, inner in enumerate(value):
             for other in spoilt(inner):
                 yield value[:at] + (other,) + value[at + 1:]
+    elif value is None:
+        yield from (False, True, "", -1, (None,), [None], [])
     elif isinstance(value, int):
         yield from (True, False, None, str(value), (value,), [value], -1 - value, deep(50))
     else:

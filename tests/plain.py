@@ -233,3 +233,70 @@ def foremost_parts(heap):
     gone = lifeless(heap)
     return [part for part in all_dead_parts(heap)
             if not any(near in gone and near not in part for near in all_ahead(heap, part[0]))]
+
+
+def is_wide(rule, m):
+    """The width, by the plain CHAIN."""
+    return max(len(lot) for lot in chain_plainly(rule, m))
+
+
+def unlike(rule, other):
+    """In how many LOTS two RULES have unlike picks."""
+    return sum(own != theirs for own, theirs in zip(rule, other))
+
+
+def with_picks(rule, lot, picks):
+    """The RULE that has these picks of lot."""
+    return tuple([(own, picks if own == lot else theirs) for own, theirs in rule])
+
+
+def may_lie_in(heap, rule, lot):
+    """For each object the areas in which it may lie behind a sweep of lot, () if that frees it."""
+    gone, there = freed_in(heap, lot), inside(heap, lot)
+    found = []
+    for one in members(heap):
+        if one in gone:
+            found.append(())
+        else:
+            found.append(picks_at(rule, sight_of(heap, one)) if one in there else (heap[1][one][0],))
+    return found
+
+
+def left_at(stand):
+    """The objects that are not freed at a STAND."""
+    return [one for one, area in enumerate(stand) if area is not None]
+
+
+def heap_of_stand(heap, stand):
+    """The HEAP of the objects that are not freed, numbered anew."""
+    left = left_at(stand)
+    objects = tuple([(stand[one], tuple([left.index(far) for far in heap[1][one][1] if far in left])) for one in left])
+    return (heap[0], objects, tuple([left.index(root) for root in heap[2]]))
+
+
+def choices_at(heap, rule, stand, lot):
+    """For each object the places that it may have at the STANDS behind a sweep of lot."""
+    moves = dict(zip(left_at(stand), may_lie_in(heap_of_stand(heap, stand), rule, lot)))
+    return [moves.get(one) or (None,) for one in members(heap)]
+
+
+def next_stand(heap, rule, stand, lot):
+    """The STAND behind a sweep of lot by a plain RULE."""
+    return tuple([places[0] for places in choices_at(heap, rule, stand, lot)])
+
+
+def where_all_lie(heap):
+    return tuple([area for area, _ in heap[1]])
+
+
+def play(heap, rule, row):
+    """The STANDS behind 0, 1, .. of row by a plain RULE."""
+    stands = [where_all_lie(heap)]
+    for lot in row:
+        stands.append(next_stand(heap, rule, stands[-1], lot))
+    return stands
+
+
+def frees_all_plainly(rule, m, course):
+    """Whether no LOT of one area and no woven LOT is missed."""
+    return missed_by(rule, m, course) == []
