@@ -116,6 +116,11 @@ def masks_within(mask):
     return [own for own in range(1, mask + 1) if own & mask == own]
 
 
+def taken_off(mask, other):
+    """The mask of the places of mask that other has not."""
+    return mask - (mask & other)
+
+
 def reach_masks(table):
     """For each place the mask of what is come to from it by table."""
     masks = [mask_of(steps) | (1 << place) for place, steps in enumerate(table)]

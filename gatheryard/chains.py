@@ -1,6 +1,6 @@
 """CHAINS and LINKINGS of RULES, their width, and their order where there is one."""
 
-from gatheryard.basics import is_number, lots_by_size, mask_of, masks_within, places_in
+from gatheryard.basics import lots_by_size, mask_of, masks_within, places_in
 from gatheryard.errors import CanNot
 from gatheryard.heaps import is_lot
 from gatheryard.leads import first_mask, is_woven, woven
@@ -57,9 +57,7 @@ def order_of(rule):
 
 def is_order(rule, thing):
     """Whether thing is an order of rule."""
-    if not isinstance(thing, tuple) or not all([is_number(area) for area in thing]):
-        return False
-    return is_linking(rule, tuple([(area,) for area in thing]))
+    return isinstance(thing, tuple) and is_linking(rule, tuple([(area,) for area in thing]))
 
 
 def bar_to(rule, most):
@@ -87,8 +85,8 @@ def chain_masks(masks, inside):
 
 
 def widest(row):
-    """How many areas the greatest LOT of row has, 0 without one."""
-    return max([len(lot) for lot in row], default=0)
+    """How many areas the greatest LOT of row has."""
+    return max([len(lot) for lot in row])
 
 
 def offending(masks, row):

@@ -92,7 +92,7 @@ def weave_of(rule, lot):
 
 def is_weave(rule, lot, thing):
     """Whether thing is a WEAVE of lot."""
-    if not isinstance(thing, tuple) or len(thing) != len(lot) or len(lot) < 2:
+    if not isinstance(thing, tuple) or len(thing) != len(lot):
         return False
     for area, own in zip(lot, thing):
         if not is_lot(own, lot[-1] + 1) or len(own) < 2 or not lies_in(own, lot) or area not in picks_of(rule, own):

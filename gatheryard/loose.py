@@ -1,6 +1,6 @@
 """Loose RULES: the plain RULES within a RULE, and for which of them a COURSE frees all."""
 
-from gatheryard.basics import lots_by_size, mark, mask_of, masks_within, places_in
+from gatheryard.basics import lots_by_size, mark, mask_of, masks_within, places_in, taken_off
 from gatheryard.errors import CanNot, TooMuch
 from gatheryard.leads import is_woven
 from gatheryard.leastlots import lies_in
@@ -56,7 +56,7 @@ def plain_freed(rule, course):
     for own in masks_within(whole):
         first = [mask for mask in row if mask & own][0]
         # Whatever lies in a LOT of row may pick as it likes.
-        free = masks[own] & ~first
+        free = taken_off(masks[own], first)
         masks[own] = least_bit(free) if free else least_bit(masks[own])
     return rule_of(masks)
 

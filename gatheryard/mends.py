@@ -1,6 +1,6 @@
 """Mends: in which LOTS a plain RULE is to be changed so that its width is less."""
 
-from gatheryard.basics import is_number, lots_within, mask_of, masks_within, orders_of, places_in
+from gatheryard.basics import is_number, lots_within, mask_of, masks_within, orders_of, places_in, taken_off
 from gatheryard.chains import chain_masks, chain_of, offending, widest
 from gatheryard.errors import CanNot
 from gatheryard.rules import areas_many, check_areas, is_plain, is_rule, pick_masks, rule_of, unlike_at
@@ -35,7 +35,7 @@ def mended(rule, width):
     masks = pick_masks(rule)
     changes = offending(masks, fewest_row(masks, width)[1])
     for own, first in changes.items():
-        masks[own] = 1 << places_in(own & ~first)[0]
+        masks[own] = 1 << places_in(taken_off(own, first))[0]
     return rule_of(masks)
 
 
@@ -147,7 +147,7 @@ def changes_ahead(masks, free, left, first):
     many = 0
     for own in masks_within(left):
         if own & first and own != first:
-            others = free[own] & ~first
+            others = taken_off(free[own], first)
             if others == 0:
                 return None
             if masks[own] & others == 0:

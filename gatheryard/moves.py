@@ -117,7 +117,7 @@ def moves_from(yard, stand, lot):
     """For each object the mask of the areas in which it may lie behind a sweep of lot at stand, 0 if it is freed."""
     tied_from, ahead, masks = yard
     gone = mask_of([one for one, area in enumerate(stand) if area is None])
-    inside = mask_of([one for one, area in enumerate(stand) if area is not None and area in lot])
+    inside = mask_of([one for one, area in enumerate(stand) if area in lot])
     gone = gone | freed_now(ahead, gone, inside)
     found = []
     for one, area in enumerate(stand):

@@ -70,7 +70,7 @@ def lasting_parts(heap, rule, course):
     found = []
     for part in dead_parts(heap):
         before = tuple([one for one in ahead_of(heap, part[0]) if one in left])
-        if part[0] in left and before == part:
+        if before == part:
             found.append(part)
     return found
 

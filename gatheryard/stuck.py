@@ -2,7 +2,7 @@
 
 from gatheryard.basics import frozen, lots_by_size, mask_of, masks_within, places_in
 from gatheryard.errors import CanNot
-from gatheryard.heaps import areas_of, holder_table, is_heap, live
+from gatheryard.heaps import holder_table, is_heap, live
 from gatheryard.leads import weave_of, woven
 from gatheryard.leastlots import lies_in_some
 from gatheryard.parts import foremost, parts
@@ -39,7 +39,7 @@ def stuck_heap(rule, lot):
 
 def is_stuck_heap(rule, lot, thing):
     """Whether thing is a stuck heap of lot."""
-    if not is_heap(thing) or thing[0] != areas_many(rule) or thing[2] != ():
+    if not is_heap(thing) or thing[0] != areas_many(rule):
         return False
     if sorted([area for area, _ in thing[1]]) != list(lot):
         return False
@@ -73,9 +73,10 @@ def stuck_against(rule, course):
 
 def is_against(rule, course, thing):
     """Whether thing is such a HEAP, of however many objects."""
-    if not is_heap(thing) or thing[0] != areas_many(rule) or thing[2] != () or not is_stuck(rule, thing):
+    if not is_heap(thing) or thing[0] != areas_many(rule) or not is_stuck(rule, thing):
         return False
-    return any([not lies_in_some(areas_of(thing, part), course) for part in foremost(thing)])
+    areas = [area for area, _ in thing[1]]
+    return any([not lies_in_some([areas[one] for one in part], course) for part in foremost(thing)])
 
 
 def fewest_changed(rule, heap):

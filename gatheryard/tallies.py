@@ -1,6 +1,6 @@
 """How many plain RULES within a RULE have this or that CHAIN, all told by masks of areas."""
 
-from gatheryard.basics import masks_within, places_in
+from gatheryard.basics import masks_within, places_in, taken_off
 
 
 def first_tallies(masks, inside):
@@ -10,7 +10,7 @@ def first_tallies(masks, inside):
     the first LOT of its CHAIN, by the mask of that. masks tells the picks that are free.
     """
     sizes = pick_sizes(inside)
-    tallies, totals = {}, {0: 1}
+    tallies, totals = {}, {}
     for left in masks_within(inside):
         found = {}
         for first in masks_within(left)[:-1]:
@@ -34,18 +34,16 @@ def ways_outside(masks, sizes, left, first):
     many = 1
     for own in masks_within(left):
         if own & first not in (0, own):
-            many = many * sizes[masks[own] & ~first]
+            many = many * sizes[taken_off(masks[own], first)]
     return many
 
 
 def tally_of_rows(tallies, good):
     """How many plain RULES have a CHAIN of LOTS alone whose masks are in good."""
     totals = {0: 1}
-    last = 0
     for left, found in tallies.items():
         totals[left] = sum([many * totals[left - first] for first, many in found.items() if first in good])
-        last = left
-    return totals[last]
+    return totals[max(tallies)]
 
 
 def tally_all_one(masks, inside):

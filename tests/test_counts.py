@@ -103,6 +103,21 @@ class CountsTest(TestCase):
             for own, many in sizes.items():
                 self.assertEqual(sizes_many(m, own), many)
 
+    def test_great_chains_by_what_each_lot_may_pick(self):
+        one = {1: 1, 2: 0, 3: 12, 4: 18384}
+        for m in (5, 6):
+            for row in partings(tuple(range(m)))[::1 if m == 5 else 7]:
+                if max(len(lot) for lot in row) > 4:
+                    continue
+                many = 1
+                for lot in row:
+                    many *= one[len(lot)]
+                for lot in lots(m):
+                    if not any(set(lot) <= set(own) for own in row):
+                        first = [own for own in row if set(own) & set(lot)][0]
+                        many *= len(set(lot) - set(first))
+                self.assertEqual(chain_many(m, row), many)
+
     def test_numbers_there_and_back(self):
         for m, found in self.chains.items():
             good = sorted((order_of(rule), rule) for rule, chain in found if max(len(lot) for lot in chain) == 1)

@@ -111,9 +111,12 @@ class HeapsTest(TestCase):
                         self.assertIs(is_way(heap, starts, one, row), good)
 
     def test_is_way_judges_things(self):
-        heap = (1, ((0, (0, 1)), (0, (0, 1))), ())
-        goods = [(0,), (1, 0), (0, 0), (0, 1, 1, 0), (0,) * 5000]
+        heap = (1, ((0, (1,)), (0, (0, 1))), ())
+        goods = [(0,), (1, 0), (0, 1, 0), (0, 1, 1, 0), (1,) * 50 + (0,)]
         check_things(self, lambda thing: is_way(heap, (0, 1), 0, thing), goods)
+        heap = (1, ((0, (0, 1)), (0, (0, 1))), ())
+        self.assertIs(is_way(heap, (0, 1), 0, (0,) * 5000), True)
+        self.assertIs(is_way(heap, (0, 1), 0, (0,) * 4000 + (True,) + (0,) * 999), False)
 
     def test_relaid(self):
         for heap in some_heaps(60, 4, 6, 3):

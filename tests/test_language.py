@@ -23,7 +23,7 @@ CHANGES = {"append", "clear", "extend", "insert", "pop", "remove", "reverse", "s
 NODES = (
     ast.Module, ast.FunctionDef, ast.ClassDef, ast.ImportFrom, ast.alias, ast.arguments, ast.arg, ast.Return,
     ast.Assign, ast.AugAssign, ast.For, ast.While, ast.If, ast.Raise, ast.Expr, ast.Pass, ast.Break, ast.Continue,
-    ast.BoolOp, ast.And, ast.Or, ast.BinOp, ast.UnaryOp, ast.Not, ast.USub, ast.Invert, ast.Add, ast.Sub, ast.Mult,
+    ast.BoolOp, ast.And, ast.Or, ast.BinOp, ast.UnaryOp, ast.Not, ast.USub, ast.Add, ast.Sub, ast.Mult,
     ast.FloorDiv, ast.Mod, ast.LShift, ast.RShift, ast.BitOr, ast.BitXor, ast.BitAnd, ast.Lambda, ast.IfExp, ast.Dict,
     ast.ListComp, ast.DictComp, ast.comprehension, ast.Compare, ast.Eq, ast.NotEq, ast.Lt, ast.LtE, ast.Gt, ast.GtE,
     ast.Is, ast.IsNot, ast.In, ast.NotIn, ast.Call, ast.keyword, ast.Constant, ast.Attribute, ast.Subscript, ast.Name,

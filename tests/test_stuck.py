@@ -199,6 +199,10 @@ class StuckTest(TestCase):
             loose = rule_by("all", heap[0])
             self.assertIs(is_against(loose, course, heap), is_against_plainly(loose, course, heap))
         self.assertIs(is_against(TURN, TWOS, full_heap(2, 4, ())), False)
+        for m in (2, 4):
+            self.assertIs(is_against(TURN, ((2,),), (m, ((0, ()),), ())), False)
+        self.assertIs(is_against(TURN, ((2,),), (3, ((0, ()),), ())), True)
+        self.assertIs(is_against(TURN, ((2,),), (3, ((0, ()),), (0,))), False)
         self.assertIs(is_against(TURN, ((0,),), (3, ((1, ()),) * 300, ())), True)
         self.assertIs(is_against(TURN, ((1,),), (3, ((1, ()),) * 300, ())), False)
 
@@ -230,6 +234,13 @@ class StuckTest(TestCase):
             wrong = [(near, far) for near, far in ties if heap[1][near][0] > heap[1][far][0]]
             self.assertEqual(fewest_changed(rule_by("greatest", heap[0]), heap), len(wrong))
         self.assertEqual(fewest_changed((), (1, (), ())), 0)
+
+    def test_a_tie_needs_an_object_to_be_tied(self):
+        # With an object in area 1 one tie put in would do; without one both have to go.
+        rule = (((0, 1), (0,)), ((0, 1, 2), (0,)), ((0, 2), (2,)), ((1, 2), (2,)))
+        objects = ((0, ()), (2, (0,)), (2, (0,)))
+        self.assertEqual(fewest_changed(rule, (3, objects, ())), 2)
+        self.assertEqual(fewest_changed(rule, (3, objects + ((1, ()),), ())), 1)
 
     def test_what_may_stay_has_nothing_to_change(self):
         random = Random(154)
