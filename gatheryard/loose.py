@@ -1,13 +1,13 @@
 """Loose RULES: the plain RULES within a RULE, and for which of them a COURSE frees all."""
 
 from gatheryard.basics import lots_by_size, mark, mask_of, masks_within, places_in, taken_off
+from gatheryard.counts import first_tallies, pick_sizes, tally_all_one, tally_of_rows, ways_outside
 from gatheryard.errors import CanNot, TooMuch
 from gatheryard.leads import is_woven
 from gatheryard.leastlots import lies_in
 from gatheryard.mends import changed
 from gatheryard.rules import areas_many, is_plain, is_rule, pick_masks, plain_at, rule_of
 from gatheryard.schedules import frees_all, left_over, masks_swept
-from gatheryard.tallies import first_tallies, pick_sizes, tally_all_one, tally_of_rows, ways_outside
 
 # Of how many areas a RULE is at most in which plain RULES are looked for that are woven or not freed.
 MOST_AREAS = 4

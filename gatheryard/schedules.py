@@ -2,11 +2,11 @@
 
 from gatheryard.basics import lots_by_size, mark, mask_of
 from gatheryard.chains import chain_of
+from gatheryard.counts import first_tallies, tally_of_rows
 from gatheryard.errors import CanNot
 from gatheryard.leastlots import lies_in, lies_in_some
 from gatheryard.rounds import is_course
 from gatheryard.rules import areas_many, is_plain, is_rule, pick_masks, rule_by, sight_lots
-from gatheryard.tallies import first_tallies, tally_of_rows
 
 
 def frees_all(rule, course):
