@@ -237,10 +237,11 @@ class StuckTest(TestCase):
 
     def test_a_tie_needs_an_object_to_be_tied(self):
         # With an object in area 1 one tie put in would do; without one both have to go.
-        rule = (((0, 1), (0,)), ((0, 1, 2), (0,)), ((0, 2), (2,)), ((1, 2), (2,)))
-        objects = ((0, ()), (2, (0,)), (2, (0,)))
-        self.assertEqual(fewest_changed(rule, (3, objects, ())), 2)
-        self.assertEqual(fewest_changed(rule, (3, objects + ((1, ()),), ())), 1)
+        rule = tuple([(lot, (0,) if lot == (0, 1, 2) else picks) for lot, picks in rule_by("greatest", 4)])
+        objects = ((0, ()), (2, (0,)), (2, (0,)), (3, ()))
+        self.assertEqual(fewest_changed(rule, (4, objects, ())), 2)
+        self.assertEqual(fewest_changed(rule, (4, objects[:3], ())), 2)
+        self.assertEqual(fewest_changed(rule, (4, objects + ((1, ()),), ())), 1)
 
     def test_what_may_stay_has_nothing_to_change(self):
         random = Random(154)
