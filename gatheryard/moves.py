@@ -89,7 +89,6 @@ def freed_when(heap, rule, lots):
 
 def areas_row(heap, rule, lots, some):
     """The list of the sets of the areas in which those of some lie that are not freed, behind 0, 1, .. of lots."""
-    check_pairs(heap, rule)
     check_places(some, len(heap[1]))
     stands = stands_of(heap, rule, lots)
     return [tuple(sorted(set([stand[one] for one in some if stand[one] is not None]))) for stand in stands]

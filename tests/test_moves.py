@@ -231,7 +231,7 @@ class MovesTest(TestCase):
                 (moves_of, (PAIR, rule, (0,))), (stands_behind, (PAIR, rule, (0, 1, 1), (0,))),
                 (are_stands, (PAIR, rule, ((0,),), None)), (are_stands, (PAIR, rule, (), ((0, 1, 1),))),
                 (moved, (PAIR, rule, (0,))), (stands_of, (PAIR, rule, ())), (freed_when, (PAIR, rule, ((0,),))),
-                (areas_row, (PAIR, rule, (), (7,))), (areas_row, (PAIR, rule, (), (0,))),
+                (areas_row, (PAIR, rule, (), (0,))), (areas_row, (PAIR, rule, ((0,),), ())),
             ]:
                 self.assertRaises(Unfit, function, *args)
         self.assertRaises(Unfit, stands_behind, crowd((6,) * 7), FREE, (0,) * 12, (0,))
@@ -242,8 +242,8 @@ class MovesTest(TestCase):
             self.assertRaises(Unfit, function, PAIR, FREE, *args)
             self.assertRaises(Unfit, function, PAIR, UP[:3] + FREE[3:], *args)
 
-    def test_objects_that_are_not_there(self):
-        for rule in (UP, FREE):
+    def test_objects_that_are_not_there_come_ahead_of_what_is_unfit(self):
+        for rule in (UP, FREE, (), rule_by("all", 2), rule_by("greatest", 4), UP[:-1], UP + UP[:1]):
             for some, place in [((3,), 3), ((0, 2, 5, 9), 5), ((-1, 4), -1), ((10 ** 30,), 10 ** 30)]:
                 with self.assertRaises(NoPlace) as caught:
                     areas_row(PAIR, rule, ((0,),), some)
