@@ -107,14 +107,23 @@ def check_plain(rule):
 
 
 def yard_of(heap, rule):
-    """What sweeps of heap by rule go by: the holders, what is ahead of the dead objects, the masks of the picks."""
+    """What sweeps of heap by rule go by."""
     heap = frozen(heap)
-    return (holder_table(heap), dead_aheads(heap), pick_masks(rule))
+    masks = pick_masks(rule)
+    return yard_with(heap, [masks for _ in range(heap[0])])
+
+
+def yard_with(heap, picks):
+    """What sweeps of a frozen HEAP go by: the holders, what is ahead of the dead objects, the masks of the picks.
+
+    picks has, for each area, the masks of the picks by the masks of the sights of the objects that lie there.
+    """
+    return (holder_table(heap), dead_aheads(heap), picks)
 
 
 def moves_from(yard, stand, lot):
     """For each object the mask of the areas in which it may lie behind a sweep of lot at stand, 0 if it is freed."""
-    tied_from, ahead, masks = yard
+    tied_from, ahead, picks = yard
     gone = mask_of([one for one, area in enumerate(stand) if area is None])
     inside = mask_of([one for one, area in enumerate(stand) if area in lot])
     gone = gone | freed_now(ahead, gone, inside)
@@ -124,7 +133,7 @@ def moves_from(yard, stand, lot):
             found.append(0)
         elif (inside >> one) & 1:
             seen = [stand[near] for near in tied_from[one] if stand[near] is not None]
-            found.append(masks[mask_of(seen) | (1 << area)])
+            found.append(picks[area][mask_of(seen) | (1 << area)])
         else:
             found.append(1 << area)
     return found

@@ -300,3 +300,40 @@ def play(heap, rule, row):
 def frees_all_plainly(rule, m, course):
     """Whether no LOT of one area and no woven LOT is missed."""
     return missed_by(rule, m, course) == []
+
+
+def own_sweep(heap, rule, lot):
+    """The HEAP behind a sweep of lot by a plain OWN RULE, object by object."""
+    gone = freed_in(heap, lot)
+    picks = {(sight, own): picked for sight, own, picked in rule}
+    stand = []
+    for one in members(heap):
+        area, sight = heap[1][one][0], sight_of(heap, one)
+        if one in gone:
+            stand.append(None)
+        else:
+            stand.append(picks[sight, area][0] if area in lot and len(sight) > 1 else area)
+    return heap_of_stand(heap, tuple(stand))
+
+
+def own_play(heap, rule, row):
+    """The HEAPS behind 0, 1, .. sweeps of row by a plain OWN RULE."""
+    heaps = [heap]
+    for lot in row:
+        heaps.append(own_sweep(heaps[-1], rule, lot))
+    return heaps
+
+
+def older(heap, age):
+    """The STAND behind a small sweep to age."""
+    young = tuple(range(age + 1))
+    gone = freed_in(heap, young)
+    return tuple([None if one in gone else min(area + 1, heap[0] - 1) if area in young else area
+                  for one, (area, _) in enumerate(heap[1])])
+
+
+def worth_plainly(heap, tariff, some):
+    """What a sweep of some is worth, counted object by object."""
+    gain, price, fee = tariff
+    gone = freed_in(heap, some)
+    return sum([gain if one in gone else -price for one in inside(heap, some)]) - fee * len(some)

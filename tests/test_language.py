@@ -18,6 +18,9 @@ WORDS = set("""type typing enum register mro elements open input law compile eva
 
 AT_ONCE = {"list", "tuple", "dict", "sorted", "sum", "any", "all", "enumerate", "zip", "min", "max"}
 
+# Parameters that the interface calls as a function of their file is called.
+CALLED_ALIKE = {"worth": {"dealing"}}
+
 CHANGES = {"append", "clear", "extend", "insert", "pop", "remove", "reverse", "setdefault", "update"}
 
 NODES = (
@@ -149,7 +152,7 @@ class LanguageTest(TestCase):
 
     def test_local_names(self):
         for file, tree in self.trees.items():
-            barred = set(self.defined(file) + self.imported(file)) | set(dir(builtins))
+            barred = set(self.defined(file) + self.imported(file)) - CALLED_ALIKE.get(file, set()) | set(dir(builtins))
             for function in [node for node in ast.walk(tree) if isinstance(node, (ast.FunctionDef, ast.Lambda))]:
                 local = {node.arg for node in ast.walk(function) if isinstance(node, ast.arg)}
                 local |= {node.id for node in ast.walk(function)
