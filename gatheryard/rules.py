@@ -168,9 +168,14 @@ def is_pair_of(thing, lot):
     return thing[0] == lot and all([area in lot for area in thing[1]])
 
 
+def are_all_areas(areas, m):
+    """Whether areas are all m areas, each once."""
+    return len(areas) == m and all([is_number(area) for area in areas]) and sorted(areas) == list(range(m))
+
+
 def check_areas(areas, m):
     """Raises Unfit if areas are not all m areas, each once."""
-    if not all([is_number(area) for area in areas]) or sorted(areas) != list(range(m)):
+    if not are_all_areas(areas, m):
         raise Unfit()
 
 

@@ -337,3 +337,8 @@ def worth_plainly(heap, tariff, some):
     gain, price, fee = tariff
     gone = freed_in(heap, some)
     return sum([gain if one in gone else -price for one in inside(heap, some)]) - fee * len(some)
+
+
+def order_of_chain(rule, m):
+    """The areas of the plain CHAIN, one behind the other."""
+    return tuple([area for lot in chain_plainly(rule, m) for area in lot])

@@ -70,7 +70,17 @@ FUNCTIONS = {
         outer_best(heap, tariff), dealing(heap, tariff), is_dealing(heap, tariff, thing),
         left_by(heap, tariff, dealing), fee_steps(heap, gain, price), best_lot(heap, tariff, many),
         most_for(heap, kept), best_next(heap, tariff, row), best_row(heap, tariff)""",
+    "told": """told_by(m, seen), fits(told, rule), orders_told(m, told), goods_many(m, told), sure_picks(m, told),
+        bar(m, told), is_bar(told, thing), asking_heap(m, lot), best_ask(m, told)""",
+    "judge": """is_claim(thing), is_so(claim), paper(claim), is_paper_for(claim, thing), is_paper_against(claim, thing),
+        verdicts(claims, things), comes_of(claim, claims), first_false(claims)""",
+    "texts": """heap_text(heap), rule_text(rule), row_text(row), deeds_text(deeds), heap_read(text), rule_read(text),
+        row_read(text), deeds_read(text)""",
+    "desk": "desk(text), is_request(thing)",
 }
+
+BOARD = """do(deed), sweep(lot), sweeps(row), pick(lot, area), undo(), redo(), heap(), rule(), names(), freed(),
+    place_of(name), log(), would_free(row), twin()"""
 
 
 def told_calls(text):
@@ -90,7 +100,17 @@ class InterfaceTest(TestCase):
                     self.assertTrue(isfunction(own))
                     self.assertEqual(own.__module__, module.__name__)
                     self.assertEqual(list(signature(own).parameters), arguments)
-        self.assertEqual(sum(len(told_calls(text)) for text in FUNCTIONS.values()), 219)
+        self.assertEqual(sum(len(told_calls(text)) for text in FUNCTIONS.values()), 246)
+
+    def test_board(self):
+        own = import_module("gatheryard.board").Board
+        self.assertEqual((own.__module__, own.__bases__), ("gatheryard.board", (object,)))
+        self.assertEqual(list(signature(own).parameters), ["heap", "rule"])
+        for name, arguments in told_calls(BOARD):
+            with self.subTest(name):
+                self.assertTrue(isfunction(vars(own)[name]))
+                self.assertEqual(list(signature(vars(own)[name]).parameters), ["self"] + arguments)
+        self.assertTrue(isfunction(vars(own)["__eq__"]) and isfunction(vars(own)["__ne__"]))
 
     def test_classes(self):
         for file, text in CLASSES.items():

@@ -13,6 +13,10 @@ BUILTINS = set("""len range enumerate zip min max sum abs sorted reversed int st
 METHODS = set("""append clear copy count endswith extend find get index insert isdigit items join keys pop remove
     replace reverse setdefault split startswith strip update values bit_length""".split())
 
+# Methods of the package's own class, and attributes that it keeps.
+OWN_METHODS = set("""do sweep sweeps pick undo redo heap rule names freed place_of log would_free twin _state_behind
+    _move_on""".split())
+
 WORDS = set("""type typing enum register mro elements open input law compile eval exec exit globals id locals vars
     hash next map round filter super property""".split())
 
@@ -30,8 +34,11 @@ NODES = (
     ast.FloorDiv, ast.Mod, ast.LShift, ast.RShift, ast.BitOr, ast.BitXor, ast.BitAnd, ast.Lambda, ast.IfExp, ast.Dict,
     ast.ListComp, ast.DictComp, ast.comprehension, ast.Compare, ast.Eq, ast.NotEq, ast.Lt, ast.LtE, ast.Gt, ast.GtE,
     ast.Is, ast.IsNot, ast.In, ast.NotIn, ast.Call, ast.keyword, ast.Constant, ast.Attribute, ast.Subscript, ast.Name,
-    ast.List, ast.Tuple, ast.Slice, ast.Load, ast.Store,
+    ast.List, ast.Tuple, ast.Slice, ast.Load, ast.Store, ast.Starred, ast.Try, ast.ExceptHandler,
 )
+
+# The errors of the package: no others are caught.
+OWN_ERRORS = {"BadLine", "CanNot", "NoPlace", "NothingDone", "TooMuch", "Unfit"}
 
 
 def name_of(node):
@@ -174,8 +181,37 @@ class LanguageTest(TestCase):
     def test_only_plain_methods_are_called(self):
         for name, node in self.nodes(ast.Call):
             if isinstance(node.func, ast.Attribute):
-                self.assertIn(node.func.attr, METHODS, (name, node.lineno))
+                self.assertIn(node.func.attr, METHODS | OWN_METHODS, (name, node.lineno))
                 self.assertEqual(node.keywords, [], (name, node.lineno))
+
+    def test_own_errors_alone_are_caught_around_one_return(self):
+        for name, node in self.nodes(ast.Try):
+            self.assertEqual((node.finalbody, node.orelse, [type(line) for line in node.body]), ([], [], [ast.Return]))
+            for handler in node.handlers:
+                self.assertIn(handler.type.id, OWN_ERRORS & set(self.imported(name)), (name, handler.lineno))
+                self.assertIsNone(handler.name)
+
+    def test_stars_stand_ahead_of_names_or_alone(self):
+        for name, node in self.nodes(ast.Call):
+            starred = [isinstance(arg, ast.Starred) for arg in node.args]
+            self.assertLessEqual(sum(starred), 1, (name, node.lineno))
+            if any(starred):
+                behind = node.args[starred.index(True) + 1:]
+                self.assertTrue(all(isinstance(arg, ast.Name) for arg in behind), (name, node.lineno))
+                self.assertIsInstance(node.func, ast.Name, (name, node.lineno))
+
+    def test_classes(self):
+        for name, node in self.nodes(ast.ClassDef):
+            self.assertEqual(node.decorator_list, [], name)
+            methods = [line.name for line in node.body if isinstance(line, ast.FunctionDef)]
+            self.assertEqual(len(methods), len(set(methods)), name)
+            kept = {own.attr for own in ast.walk(node) if isinstance(own, ast.Attribute)
+                    and isinstance(own.ctx, ast.Store)}
+            self.assertEqual(kept & set(methods), set(), name)
+            begun = [own for own in node.body if isinstance(own, ast.FunctionDef) and own.name == "__init__"]
+            first = {own.attr for own in ast.walk(begun[0]) if isinstance(own, ast.Attribute)
+                     and isinstance(own.ctx, ast.Store)} if begun else set()
+            self.assertEqual(kept, first, name)
 
     def test_is_stands_beside_none_true_and_false(self):
         for name, node in self.nodes(ast.Compare):

@@ -35,6 +35,14 @@ WORDS = ("own", "other", "greatest", "next")
 OTHER, UP = own_rule(2, "other"), own_rule(2, "greatest")
 SPIN = (2, ((0, (1,)), (0, (0, 2)), (1, (1, 2))), ())
 ONES = tuple([(area,) for area in range(6)])
+# An OWN RULE by its picks, a row of one LOT, and the ties of a HEAP that it leads to a HEAP again behind 400 laps, or
+# behind 401, by the areas in which its objects lie.
+SLOW_PICKS = ("001203322422442155243112121224551025010113011011453351410015010122233032032052322202052400503"
+              "333450350050050400121111231313212111242244451531313411335111415153222353555534225252434545354")
+SLOW_ROW = ((0, 1, 3, 4, 5),)
+SLOW_TIES = ((1, 3), (0, 2, 6, 7, 9, 10), (4, 8, 11), (4, 5, 11), (7,), (3, 11), (10,), (9,), (), (6, 11), (8,), ())
+JUST_SO = (2, 1, 1, 5, 1, 3, 1, 1, 0, 5, 1, 1)
+TOO_SLOW = (2, 1, 1, 3, 5, 5, 1, 1, 0, 5, 1, 5)
 
 
 def sights(m):
@@ -240,6 +248,19 @@ class OwnTest(TestCase):
         for heap, rule in product([SPIN, ring((0, 1, 0, 1)), (2, SPIN[1], (0,))], all_own_rules(2, True)):
             for row in (((0,),), ((1,), (0,)), ((0, 1),), ((0,), (0,), (1,))):
                 self.assertEqual(comes_back(heap, rule, row), laps_plainly(heap, rule, row, 400))
+
+    def test_four_hundred_laps_and_no_more(self):
+        rule = tuple([(lot, area, (int(pick),)) for (lot, area), pick in zip(sights(6), SLOW_PICKS)])
+        self.assertIs(is_own_rule(rule, 6), True)
+        just_so, too_slow = [(6, tuple(zip(there, SLOW_TIES)), ()) for there in (JUST_SO, TOO_SLOW)]
+        self.assertEqual(laps_plainly(just_so, rule, SLOW_ROW, 400), (16, 384))
+        self.assertEqual(comes_back(just_so, rule, SLOW_ROW), (16, 384))
+        self.assertEqual(laps_plainly(too_slow, rule, SLOW_ROW, 401), (17, 384))
+        self.assertRaises(TooMuch, comes_back, too_slow, rule, SLOW_ROW)
+        # Two sweeps a lap: the same comes again behind half as many laps.
+        self.assertEqual(comes_back(too_slow, rule, SLOW_ROW * 2), (9, 192))
+        # Where something is freed for ever the laps count all the same.
+        self.assertRaises(TooMuch, comes_back, (6, too_slow[1] + ((0, ()),), ()), rule, SLOW_ROW)
 
     def test_rules_that_are_not_plain_are_unfit_first(self):
         loose = (((0, 1), 0, (1,)), ((0, 1), 1, (0, 1)))
