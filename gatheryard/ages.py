@@ -25,7 +25,6 @@ def aged(heap, age):
 
 def aged_by(heap, row):
     """The list of the HEAPS behind 0, 1, .. small sweeps of row."""
-    check_places(row, heap[0])
     heaps = [frozen(heap)]
     for age in row:
         heaps.append(aged(heaps[-1], age))

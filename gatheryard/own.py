@@ -60,7 +60,7 @@ def own_run(heap, rule, row):
 
 def is_turn(m, rule, thing):
     """Whether thing is a TURN of rule."""
-    if not is_plain_own(rule) or len(rule) != triples_many(m) or not isinstance(thing, tuple) or len(thing) != 2:
+    if not is_own_rule(frozen(rule), m) or not is_plain_own(rule) or not isinstance(thing, tuple) or len(thing) != 2:
         return False
     heap, row = thing
     if not is_heap(heap) or heap[0] != m or heap[1] == () or heap[2] != () or not is_course(row, m):

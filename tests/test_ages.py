@@ -145,6 +145,7 @@ class AgesTest(TestCase):
         for function, args, place in [
             (burden, (OLD, 5), 5), (burden, (OLD, -1), -1), (aged, (OLD, 3), 3), (aged, (OLD, -1), -1),
             (aged_by, (OLD, (0, 3, 7)), 3), (aged_by, (OLD, (-2, 3)), -2), (young_kept, (OLD, 3), 3),
+            (young_kept, (OLD, 9), 9), (young_kept, (OLD, -1), -1), (aged, (OLD, 8), 8), (aged_by, (OLD, (7, 9)), 7),
             (freed_places, (OLD, (2, 1, 4)), 4), (till_gone, (OLD, (0, 9, 3)), 9), (till_gone, ((2, (), ()), (2,)), 2),
             (aged_by, ((1, (), ()), (0, 0, 1)), 1), (freed_places, ((1, (), ()), (1,)), 1),
         ]:

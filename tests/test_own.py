@@ -240,6 +240,9 @@ class OwnTest(TestCase):
         loose = (((0, 1), 0, (0, 1)), ((0, 1), 1, (0,)))
         for thing in (turn, None, [], (), 7, True):
             self.assertIs(is_turn(2, loose, thing), False)
+        for m in (-10 ** 30, -1, 0, 1, 3, 10 ** 30):
+            self.assertIs(is_turn(m, OTHER, turn), False)
+            self.assertIs(is_turn(m, OTHER, ((m,) + SPIN[1:], turn[1])), False)
         self.assertIs(is_turn(2, own_rule(2, "own"), ((2, ((0, (1,)), (1, (0,))), ()), ((0,), (1,)))), True)
 
     def test_what_comes_back_by_the_heap_that_comes_again(self):
