@@ -193,10 +193,7 @@ def verdict(claim, thing):
 
 
 def strongest_of(claim):
-    """CLAIMS that come of claim such that all that does comes of one of them by the rules for its own word.
-
-    For "good" these are the rules from "width", too.
-    """
+    """CLAIMS that come of claim, or are it, such that each one that does comes of one of them by one rule."""
     word, first, second = claim[:3]
     if word == "good":
         return (claim,) + widths_from(first, widest(second))
