@@ -165,6 +165,13 @@ class ToldTest(TestCase):
         for among in (0, 10, 20, 30, 50, 100):
             for _ in range(7):
                 self.check_told(4, rules, some_told(random, 4, among))
+        for among in (40, 60, 70, 80):
+            for _ in range(25):
+                self.check_told(4, rules, some_told(random, 4, among))
+        # Here a LOT of three is the best one to ask for, though one of two leaves fewer orders.
+        for pairs in [(((0, 1, 2), 1), ((0, 1, 2, 3), 2), ((0, 1, 3), 1), ((2, 3), 2)),
+                      (((0, 1, 2), 2), ((0, 1, 2, 3), 0), ((0, 2, 3), 0))]:
+            self.check_told(4, rules, pairs)
 
     def check_told(self, m, rules, pairs):
         left = fitting(rules, pairs)
